@@ -1,0 +1,1 @@
+"""Whateverboxes: sums that one box must hold."""
