@@ -1,8 +1,18 @@
 """Other ways to find what the package returns, on small inputs: by determinants, and by going through boxes."""
 
+import fractions
+import functools
 import itertools
 import math
 import re
+
+from whateverboxes.bars import Sorter
+from whateverboxes.errors import BadText, BoxError
+from whateverboxes.machines import Machine
+from whateverboxes.programs import Program
+from whateverboxes.systems import System
+
+NAMES = ("x", "y", "z", "u", "v", "w")
 
 
 def box(count, low, high):
@@ -241,3 +251,347 @@ def asked_equations(lines, numbers):
 def is_asked(lines, numbers):
     """Whether some run gives these numbers to the kept names."""
     return is_solvable(asked_equations(lines, numbers))
+
+
+def random_row(rng, width, bound, most=6):
+    return tuple(rng.randint(-bound, bound) for _ in range(width)), rng.randint(-most, most)
+
+
+def random_parts(rng, width, rows, rests, bound=4):
+    """Rows and rests, some of them made so that a small tuple fulfils them."""
+    point = tuple(rng.randint(-2, 2) for _ in range(width))
+    keep = rng.randrange(3)
+    made = []
+    for k in range(rows + rests):
+        factors, constant = random_row(rng, width, bound)
+        if keep:
+            constant = sum(a * b for a, b in zip(factors, point))
+        made.append((factors, constant))
+    if rows > 1 and rng.randrange(3) == 0:
+        times = rng.randint(-2, 2)
+        made[1] = tuple(times * a for a in made[0][0]), times * made[0][1] + (rng.randrange(4) == 0)
+    moduli = [rng.randint(2, 12) for _ in range(rests)]
+    kept = tuple((factors, constant + modulus * rng.randint(-2, 2), modulus)
+                 for (factors, constant), modulus in zip(made[rows:], moduli))
+    return tuple(made[:rows]), kept
+
+
+def random_system(rng, width, rows, rests, bound=4):
+    return System(NAMES[:width], *random_parts(rng, width, rows, rests, bound))
+
+
+def likely_system(rng, width, rows, rests, bound=3):
+    """A system that often has alike integers, and sets of names whose factors add up to 0."""
+    low = rng.choice((-3, -1, 0, 0, 0, 1, 2))
+    made = []
+    for _ in range(rows):
+        factors = [rng.randint(-bound, bound) for _ in range(width)]
+        if rng.randrange(3):
+            chosen = rng.sample(range(width), rng.randint(1, width))
+            factors[chosen[0]] -= sum(factors[k] for k in chosen)
+        made.append((tuple(factors), low * sum(factors) + (rng.randrange(8) == 0)))
+    kept = []
+    for _ in range(rests):
+        factors, _ = random_row(rng, width, bound)
+        modulus = rng.randint(2, 12)
+        kept.append((factors, low * sum(factors) + modulus * rng.randint(-1, 1) + (rng.randrange(8) == 0), modulus))
+    return System(NAMES[:width], tuple(made), tuple(kept))
+
+
+def put_otherwise(rng, system):
+    """The rows multiplied, added, exchanged and repeated, the rests moved by their moduli and exchanged."""
+    rows = [(factors, constant) for factors, constant in system.rows]
+    for k in range(len(rows)):
+        times = rng.choice((-7, -1, 1, 2, 30))
+        rows[k] = tuple(times * a for a in rows[k][0]), times * rows[k][1]
+        for j in range(len(rows)):
+            if j != k and rng.randrange(2):
+                rows[k] = tuple(a + b for a, b in zip(rows[k][0], rows[j][0])), rows[k][1] + rows[j][1]
+    if rows and rng.randrange(2):
+        rows.append(rng.choice(rows))
+    rests = []
+    for factors, constant, modulus in system.rests:
+        sign = rng.choice((1, -1))
+        rests.append((tuple(sign * a + modulus * rng.randint(-3, 3) for a in factors),
+                      sign * constant + modulus * rng.randint(-3, 3), modulus))
+    rng.shuffle(rows)
+    rng.shuffle(rests)
+    return System(system.names, tuple(rows), tuple(rests))
+
+
+def with_names_exchanged(rng, system):
+    """The system with its names in another order."""
+    order = rng.sample(range(len(system.names)), len(system.names))
+
+    def turned(lines):
+        return tuple((tuple(factors[k] for k in order), *more) for factors, *more in lines)
+
+    return System(tuple(system.names[k] for k in order), turned(system.rows), turned(system.rests))
+
+
+def moved_by(system, number):
+    """The system whose constants are such that all that fulfils it is greater by one integer."""
+    rows = tuple((factors, constant + number * sum(factors)) for factors, constant in system.rows)
+    rests = tuple((factors, constant + number * sum(factors), modulus) for factors, constant, modulus in system.rests)
+    return System(system.names, rows, rests)
+
+
+def random_pairs(rng, names, most):
+    """Pairs of unlike names, perhaps the same one twice or the other way round."""
+    if len(names) < 2:
+        return ()
+    pairs = [tuple(rng.sample(names, 2)) for _ in range(rng.randint(0, most))]
+    if pairs and rng.randrange(3) == 0:
+        pairs.append(rng.choice((pairs[0], pairs[0][::-1])))
+    return tuple(pairs[:6])
+
+
+def parts_of(system):
+    return system.names, system.rows, system.rests
+
+
+def fraction_rank(rows):
+    """The rank, by elimination with fractions."""
+    left = [[fractions.Fraction(entry) for entry in row] for row in rows]
+    size = 0
+    for at in range(len(left[0]) if left else 0):
+        pivots = [row for row in left[size:] if row[at]]
+        if pivots:
+            rest = [row for row in left[size:] if row is not pivots[0]]
+            left[size:] = pivots[:1] + [[a - row[at] / pivots[0][at] * b for a, b in zip(row, pivots[0])]
+                                        for row in rest]
+            size += 1
+    return size
+
+
+def depends(rows, row):
+    """Whether a row is a sum of multiples, by fractions, of other rows."""
+    return fraction_rank([*rows, row]) == fraction_rank(rows)
+
+
+def follows(rows, before, new):
+    """Whether some direction has 1 at the new indexes and 0 outside of these and of those before."""
+    columns = [[factors[k] for factors, _ in rows] for k in before]
+    return depends(columns, [sum(factors[k] for k in new) for factors, _ in rows])
+
+
+def reached_steps(rows, width):
+    """All reached sets of indexes, each with the least number of steps to it, going from set to set."""
+    steps = {frozenset(): 0}
+    level = [frozenset()]
+    while level:
+        further = []
+        for before in level:
+            others = [k for k in range(width) if k not in before]
+            for size in range(1, len(others) + 1):
+                for new in itertools.combinations(others, size):
+                    after = before | set(new)
+                    if after not in steps and follows(rows, before, new):
+                        steps[after] = steps[before] + 1
+                        further.append(after)
+        level = further
+    return steps
+
+
+def reached_indexes(system):
+    return sorted(max(reached_steps(system.rows, len(system.names)), key=len))
+
+
+def is_alike(system, number):
+    return type(number) is int and fulfils(system.rows, system.rests, [number] * len(system.names))
+
+
+def alike_numbers(system, low, high):
+    """All alike integers from low to high, by trying them."""
+    return [number for number in range(low, high + 1) if is_alike(system, number)]
+
+
+def is_integer_tuple(thing, count):
+    return type(thing) is tuple and len(thing) == count and all(type(entry) is int for entry in thing)
+
+
+def is_move(system, thing):
+    rows = [(factors, 0) for factors, _ in system.rows]
+    rests = [(factors, 0, modulus) for factors, _, modulus in system.rests]
+    return is_integer_tuple(thing, len(system.names)) and fulfils(rows, rests, thing)
+
+
+def is_form(system, thing):
+    """Whether a value is a form, word for word as point 11 says it."""
+    if type(thing) is not tuple or len(thing) != 3:
+        return False
+    factor, fronts, moves = thing
+    width = len(system.names)
+    if type(factor) is not int or factor < 1 or type(moves) is not tuple or len(moves) not in range(1, 13):
+        return False
+    if not all(is_move(system, move) for move in moves) or not is_integer_tuple(fronts, width):
+        return False
+    for k, front in enumerate(fronts):
+        if front not in range(len(moves)) or moves[front][k] != factor:
+            return False
+        for earlier in moves[:front]:
+            if earlier[k] != 0:
+                return False
+    return True
+
+
+def are_always_alike(system, one, other):
+    """Whether each integer tuple that fulfils the system has the same entry at two names, by determinants."""
+    if not is_solvable(equations_of(system.rows, system.rests)):
+        return True
+    at, to = system.names.index(one), system.names.index(other)
+    apart = tuple((k == at) - (k == to) for k in range(len(system.names)))
+    table = tuple(factors for factors, _ in system.rows)
+    if rank_by_minors(table + (apart,)) > rank_by_minors(table):
+        return False
+    # The difference is the same for all that fulfil the rows, so one value of it can be asked for.
+    return is_solvable(equations_of(system.rows + ((apart, 0),), system.rests))
+
+
+def bars_modulus(system, modulus):
+    """Whether no integer tuple that fulfils the system has equal remainders, by determinants."""
+    width = len(system.names)
+    more = []
+    for k in range(1, width if modulus > 1 else 1):
+        more.append((tuple((j == 0) - (j == k) for j in range(width)), 0, modulus))
+    return not is_solvable(equations_of(system.rows, system.rests + tuple(more)))
+
+
+def splits(count):
+    """All pairs of disjoint tuples of indexes."""
+    for marks in itertools.product(range(3), repeat=count):
+        yield [k for k in range(count) if marks[k] == 1], [k for k in range(count) if marks[k] == 2]
+
+
+def is_clear(system, prime):
+    """Whether a prime is clear, by the greatest minors that are not 0."""
+    table = system.plain_rows()
+    for apart, together in splits(len(system.names)):
+        part = [tuple([row[k] for k in apart] + [sum(row[k] for k in together)]) for row in table]
+        if rank_by_minors(part) != rank_by_minors(part, prime):
+            return False
+    return True
+
+
+def primes(most):
+    return [n for n in range(2, most + 1) if all(n % k for k in range(2, math.isqrt(n) + 1))]
+
+
+def are_unlike(system, moves, pairs):
+    return all(any(move[system.names.index(one)] != move[system.names.index(other)] for move in moves)
+               for one, other in pairs)
+
+
+def is_verdict(system, thing, pairs):
+    """Whether a value is a right verdict, word for word as point 16 says it."""
+    if type(thing) is not tuple or len(thing) not in (2, 3) or type(thing[0]) is not str:
+        return False
+    word, *rest = thing
+    if (word, len(rest)) == ("modulo", 1):
+        return type(rest[0]) is int and rest[0] >= 1 and bars_modulus(system, rest[0])
+    if (word, len(rest)) == ("alike", 1):
+        return not pairs and is_alike(system, rest[0]) and rest[0] >= 1
+    if (word, len(rest)) == ("never", 2):
+        return type(rest[0]) is type(rest[1]) is str and tuple(rest) in pairs and are_always_alike(system, *rest)
+    if (word, len(rest)) == ("form", 2):
+        return is_alike(system, rest[0]) and is_form(system, rest[1]) and are_unlike(system, rest[1][2], pairs)
+    if (word, len(rest)) == ("digits", 2):
+        if not is_alike(system, rest[0]) or type(rest[1]) is not int or not 2 <= rest[1] < 10 ** 6:
+            return False
+        if any(rest[1] % k == 0 for k in range(2, math.isqrt(rest[1]) + 1)) or (rest[0] > 0 and not pairs):
+            return False
+        return len(reached_indexes(system)) < len(system.names) and is_clear(system, rest[1])
+    return False
+
+
+def is_modulo_verdict(system, thing):
+    """Whether a value is a right verdict about sorters by remainders, word for word as point 19 says it."""
+    if type(thing) is not tuple or not thing or type(thing[0]) is not str:
+        return False
+    word, *rest = thing
+    if word in ("modulo", "alike"):
+        return is_verdict(system, thing, ())
+    if (word, len(rest)) == ("ahead", 2):
+        return is_alike(system, rest[0]) and is_move(system, rest[1]) and all(entry > 0 for entry in rest[1])
+    if (word, len(rest)) == ("weights", 1):
+        row = rest[0]
+        if not is_integer_tuple(row, len(system.names)) or min(row) < 0 or not any(row):
+            return False
+        # If the alike integers have a step, it divides the product of the moduli.
+        many = math.prod(modulus for _, _, modulus in system.rests)
+        return bool(alike_numbers(system, -200 - many, 0)) and depends([factors for factors, _ in system.rows], row)
+    return False
+
+
+def is_sure(system, pairs):
+    """Whether a system is sure, by Rado's theorem and what points 15 and 20 say of alike integers and of pairs."""
+    many = math.prod(modulus for _, _, modulus in system.rests)
+    found = alike_numbers(system, -200, 200 + many)
+    if not found:
+        return False
+    if found[-1] >= 1 and not pairs:
+        return True
+    return len(reached_indexes(system)) == len(system.names) and not any(
+        are_always_alike(system, one, other) for one, other in pairs)
+
+
+def solutions(system, pairs, most):
+    """All solutions whose numbers are at most so great."""
+    for numbers in box(len(system.names), 1, most):
+        values = dict(zip(system.names, numbers))
+        if fulfils(system.rows, system.rests, numbers) and all(values[one] != values[other] for one, other in pairs):
+            yield numbers
+
+
+def digits_of(number, base):
+    """The digits of a number, the units first."""
+    found = []
+    while number:
+        found.append(number % base)
+        number //= base
+    return found
+
+
+def nested(depth, inner, wrap):
+    for _ in range(depth):
+        inner = wrap(inner)
+    return inner
+
+
+@functools.cache
+def odd_values():
+    """Values of all kinds: deep and long ones, great integers, and objects of the package."""
+    system = System.read("names x y\nx - y = 0\nx = 1 mod 3")
+    return (None, True, False, 0, 1, -1, 2, 7, 10 ** 59, -10 ** 60 + 1, "", "x", "modulo", "form", "0", "~" * 20000,
+            "a\nb", (), [], {}, (0,), (1, 2), [1, 2], (None,), ((),), {"modulo": 2}, {0: 1}, (0,) * 1000,
+            ("modulo", "2"), ["modulo", 2], ("x", "y"), (("x", "y"),), tuple(range(100000)), [[]] * 20000,
+            nested(199, 1, lambda inner: (inner,)), nested(199, 1, lambda inner: [inner]),
+            nested(199, 1, lambda inner: {"a": inner}), nested(150, (1, 2), lambda inner: ("form", inner)),
+            system, Program.read("take x\nkeep x"), Sorter.modulo(3), Sorter.digits(5, after=-2),
+            Machine.last(3), Machine.modulo(2, 3) * Machine.first(2), BoxError(), BadText((1, 2)))
+
+
+def spoiled(rng, value):
+    """The value with some part replaced, left out, exchanged, repeated, or made another kind of value."""
+    if type(value) in (tuple, list) and value and rng.randrange(6):
+        at = rng.randrange(len(value))
+        kind = rng.randrange(12)
+        parts = list(value)
+        if kind == 0:
+            del parts[at]
+        elif kind == 1:
+            parts.insert(at, parts[at])
+        elif kind == 2:
+            to = rng.randrange(len(parts))
+            parts[at], parts[to] = parts[to], parts[at]
+        elif kind == 3:
+            parts.append(rng.choice(odd_values()))
+        else:
+            parts[at] = spoiled(rng, parts[at])
+        return type(value)(parts)
+    if type(value) is int:
+        return rng.choice((value + 1, value - 1, -value, 2 * value, bool(value), str(value), (value,), [value], None,
+                           0, 1, value + 10 ** 40, rng.choice(odd_values())))
+    if type(value) is str:
+        return rng.choice((value + " ", value[:-1], value.upper(), [value], (value,), rng.choice(odd_values())))
+    return rng.choice((list(value), {0: value}, (value,), str(value), None)) if type(value) is tuple else None

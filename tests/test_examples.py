@@ -2,10 +2,19 @@
 
 import unittest
 
-from whateverboxes.errors import BadText, Failed
+from whateverboxes.bars import Sorter, clear_prime, is_clear, last_digit
+from whateverboxes.errors import BadMachine, BadText, Failed, NoForm
+from whateverboxes.forms import alike, form, form_holds, form_numbers, reached
+from whateverboxes.machines import Machine
 from whateverboxes.programs import Program
 from whateverboxes.systems import System
 from whateverboxes.tables import hermite, kernel, rank, rank_modulo
+from whateverboxes.verdicts import (barring, beside, keepable, modulo_verdict, modulo_verdict_holds, verdict,
+                                    verdict_holds, verdict_of_any)
+
+
+def read(*lines):
+    return System.read("\n".join(lines))
 
 
 class ExamplesTest(unittest.TestCase):
@@ -37,6 +46,74 @@ class ExamplesTest(unittest.TestCase):
         self.assertEqual(program.run(x=1, d=2), (("x", 1), ("d", 2), ("y", 3), ("z", 5)))
         self.assertIs(program.system().is_same(System.read("names x y z\nx - 2 y + z = 0")), True)
         self.assertEqual(str(program.system()), "names x y z\nx - 2 y + z = 0")
+
+    def test_a_sum(self):
+        system = read("names x y z", "x + y - z = 0")
+        made = (1, (0, 1, 0), ((1, 0, 1), (0, 1, 1)))
+        self.assertEqual(alike(system), (0,))
+        self.assertEqual(reached(system), ("x", "y", "z"))
+        self.assertIs(form_holds(system, made), True)
+        self.assertIs(form_holds(system, form(system)), True)
+        self.assertEqual(form_numbers(made, 5, 3), (5, 3, 8))
+        word, number, told = verdict(system)
+        self.assertEqual((word, number), ("form", 0))
+        self.assertIs(form_holds(system, told), True)
+        self.assertIs(verdict_holds(system, ("form", 0, made)), True)
+
+    def test_three_times_a_number(self):
+        system = read("names x y z", "x + y - 3 z = 0")
+        self.assertEqual(verdict(system), ("digits", 0, 5))
+        self.assertEqual((clear_prime(system), is_clear(system, 3)), (5, False))
+        self.assertIs(modulo_verdict_holds(system, ("ahead", 0, (2, 1, 1))), True)
+        self.assertIs(modulo_verdict_holds(system, modulo_verdict(system)), True)
+        self.assertEqual(modulo_verdict(system)[:2], ("ahead", 0))
+        with self.assertRaises(NoForm) as held:
+            form(system)
+        self.assertEqual(held.exception.reached, ())
+        for x in range(1, 40):
+            for y in range(1, 40):
+                if (x + y) % 3 == 0:
+                    self.assertGreater(len({last_digit(n, 5) for n in (x, y, (x + y) // 3)}), 1)
+
+    def test_other_verdicts(self):
+        self.assertEqual(verdict(read("names x y", "x - y = -1")), ("modulo", 2))
+        below = read("names x y", "2 x - y = -3")
+        self.assertEqual((alike(below), verdict(below)), ((-3,), ("digits", -3, 3)))
+        tied = read("names x y", "x - y = 0", "x = 1 mod 3")
+        self.assertEqual(alike(tied), (1, 3))
+        self.assertEqual(verdict(tied, unlike=(("x", "y"),)), ("never", "x", "y"))
+        self.assertEqual(verdict(read("names x y z", "x + y - z = 2")), ("alike", 2))
+        whole = read("names x y z", "x + y + z = 0")
+        self.assertEqual(verdict(whole), ("digits", 0, 5))
+        self.assertEqual(modulo_verdict(whole)[0], "weights")
+        self.assertIs(modulo_verdict_holds(whole, ("weights", (1, 1, 1))), True)
+
+    def test_equal_distances(self):
+        program = Program.read("take x\ntake d\nlet y = x + d\nlet z = x + 2 d\nkeep x y z")
+        self.assertEqual(verdict(program.system(), unlike=(("x", "y"),))[0], "form")
+
+    def test_several_systems(self):
+        schur, three = read("names x y z", "x + y - z = 0"), read("names x y z", "x + y - 3 z = 0")
+        self.assertEqual(verdict_of_any(three, schur), ("sure", 1, verdict(schur)))
+        self.assertEqual(verdict_of_any(three, read("names x y", "x - y = -1")),
+                         ("barred", (("digits", 0, 5), ("modulo", 2))))
+        self.assertEqual(barring(("digits", 0, 5), ("modulo", 2)).boxes, 8)
+        self.assertEqual(beside(schur, three).names, ("x", "y", "z", "x2", "y2", "z2"))
+        self.assertEqual(keepable(schur & three), ((0,),))
+
+    def test_sorters_and_machines(self):
+        self.assertEqual(Sorter.digits(5)(10), 1)
+        self.assertEqual(Sorter.digits(3, after=2).boxes, 4)
+        self.assertEqual([Sorter.digits(3, after=2)(number) for number in range(1, 6)], [0, 1, 2, 3, 2])
+        both = Sorter.modulo(3) * Sorter.digits(5)
+        self.assertEqual((both.boxes, both(10)), (12, 5))
+        machine = Machine(2, ((0, 1), (1, 0)), (0, 1))
+        self.assertEqual((machine(5), machine(7), machine.many), (0, 1, 2))
+        product = machine * Machine.last(2)
+        self.assertEqual((product(7), product.sorter()(7)), (1, 1))
+        with self.assertRaises(BadMachine) as held:
+            Machine(2, ((1, 0), (1, 1)), (0, 1))
+        self.assertEqual(held.exception.state, 0)
 
     def test_errors(self):
         with self.assertRaises(BadText) as held:

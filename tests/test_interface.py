@@ -6,6 +6,12 @@ import unittest
 
 FUNCTIONS = {
     "tables": {"rank": "table", "rank_modulo": "table prime", "hermite": "table", "kernel": "table width"},
+    "forms": {"alike": "system", "reached": "system", "form": "system", "form_holds": "system thing",
+              "form_numbers": "form *numbers"},
+    "bars": {"last_digit": "number base", "is_clear": "system prime", "clear_prime": "system"},
+    "verdicts": {"verdict": "system * unlike=()", "verdict_holds": "system thing * unlike=()", "barring": "*things",
+                 "verdict_of_any": "*systems", "beside": "*systems", "keepable": "system * unlike=()",
+                 "modulo_verdict": "system", "modulo_verdict_holds": "system thing"},
 }
 CLASSES = {
     "errors": {"BoxError": {}, "BadText": {"__init__": "self line"}, "Failed": {"__init__": "self line"},
@@ -17,12 +23,24 @@ CLASSES = {
                            "__and__": "self other", "without": "self *indexes", "renamed": "self **names",
                            "equate": "self one other", "__str__": "self", "read": "text"}},
     "programs": {"Program": {"run": "self **inputs", "system": "self", "__str__": "self", "read": "text"}},
+    "bars": {"Sorter": {"modulo": "modulus", "digits": "prime * after=0", "__mul__": "self other",
+                        "__call__": "self number"}},
+    "machines": {"Machine": {"__init__": "self base steps boxes", "modulo": "base modulus", "last": "base",
+                             "first": "base", "sums": "base modulus", "__mul__": "self other",
+                             "__call__": "self number", "sorter": "self"}},
 }
+STATIC = {("systems", "System"): "read", ("programs", "Program"): "read", ("bars", "Sorter"): "modulo digits",
+          ("machines", "Machine"): "modulo last first sums"}
 
 
 def told(function):
-    """The parameters of a function, in a line."""
-    return " ".join(str(one) for one in inspect.signature(function).parameters.values())
+    """The parameters of a function, in a line; a star stands ahead of those that are passed by name only."""
+    words = []
+    for one in inspect.signature(function).parameters.values():
+        if one.kind == one.KEYWORD_ONLY and "*" not in words:
+            words.append("*")
+        words.append(str(one))
+    return " ".join(words)
 
 
 class InterfaceTest(unittest.TestCase):
@@ -46,10 +64,11 @@ class InterfaceTest(unittest.TestCase):
                     self.assertIn(method, vars(made))
                     self.assertEqual(told(getattr(made, method)), parameters)
 
-    def test_read_is_called_off_the_class(self):
-        for name, one in (("systems", "System"), ("programs", "Program")):
+    def test_what_is_called_off_the_class(self):
+        for (name, one), methods in STATIC.items():
             made = vars(importlib.import_module(f"whateverboxes.{name}"))[one]
-            self.assertIsInstance(vars(made)["read"], staticmethod)
+            for method in methods.split():
+                self.assertIsInstance(vars(made)[method], staticmethod)
 
 
 if __name__ == "__main__":

@@ -22,7 +22,9 @@ NODES = ("Module Expr Constant ImportFrom alias FunctionDef ClassDef arguments a
          "Return If IfExp While For Break Continue Pass Raise Tuple List Dict Subscript Slice Starred Compare BoolOp "
          "UnaryOp BinOp And Or Not USub Add Sub Mult FloorDiv Mod Eq NotEq Lt LtE Gt GtE Is IsNot In NotIn ListComp "
          "comprehension JoinedStr FormattedValue AugAssign keyword Set SetComp DictComp Lambda BitAnd BitOr Try "
-         "ExceptHandler Delete Del Assert").split()
+         "ExceptHandler Delete Del Assert Match match_case MatchSequence MatchValue MatchAs MatchStar").split()
+LIBRARY = {"heapq": ("heappush", "heappop", "heapify"), "math": ("gcd", "lcm", "isqrt", "comb"),
+           "itertools": ("product", "combinations", "permutations")}
 FORBIDDEN_NAMES = ("register mro elements open input law version_info with_traceback add_note attrgetter breakpoint "
                    "builtins compile copyright credits delattr dir eval exec exit gc globals help id importlib license "
                    "locals methodcaller os quit super type vars sys").split()
@@ -46,6 +48,8 @@ def bound_names(tree):
             yield node.id
         elif isinstance(node, ast.alias):
             yield node.asname or node.name
+        elif isinstance(node, ast.MatchAs) and node.name:
+            yield node.name
 
 
 class LanguageTest(unittest.TestCase):
@@ -84,14 +88,20 @@ class LanguageTest(unittest.TestCase):
                    for path, tree in trees()}
         needed = {}
         for path, tree in trees():
-            imports = [node for node in ast.walk(tree) if isinstance(node, ast.ImportFrom)]
+            everything = [node for node in ast.walk(tree) if isinstance(node, ast.ImportFrom)]
+            imports = [node for node in everything if node.module not in LIBRARY]
             needed[path.stem] = [node.module.split(".")[1] for node in imports]
-            for node in imports:
+            for node in everything:
                 self.assertIn(node, tree.body)
+                self.assertEqual([one.asname for one in node.names], [None] * len(node.names))
+            for node in everything:
+                if node.module in LIBRARY:
+                    self.check_library(path, tree, node)
+            for node in imports:
                 self.assertEqual((node.level, node.module.split(".")[0]), (0, "whateverboxes"))
                 for one in node.names:
                     self.assertIn(one.name, defined[node.module.split(".")[1]])
-            names = [one.name for node in imports for one in node.names]
+            names = [one.name for node in everything for one in node.names]
             words = [node.id for node in ast.walk(tree) if isinstance(node, ast.Name)]
             for name in names:
                 self.assertIn(name, words, path)
@@ -101,6 +111,27 @@ class LanguageTest(unittest.TestCase):
             self.assertTrue(free, needed)
             for name in free:
                 del needed[name]
+
+    def check_library(self, path, tree, node):
+        """The names are known ones, and are only called, with all arguments by position and without a star."""
+        calls = [one for one in ast.walk(tree) if isinstance(one, ast.Call)]
+        for one in node.names:
+            self.assertIn(one.name, LIBRARY[node.module], path)
+            called = [call for call in calls if ast.unparse(call.func) == one.name]
+            words = [word for word in ast.walk(tree) if isinstance(word, ast.Name) and word.id == one.name]
+            self.assertEqual(len(called), len(words), (path, one.name))
+            for call in called:
+                self.assertEqual(call.keywords, [], path)
+                self.assertFalse(any(isinstance(entry, ast.Starred) for entry in call.args), path)
+
+    def test_operators_and_properties_change_nothing(self):
+        for path, tree in trees():
+            for node in ast.walk(tree):
+                if isinstance(node, ast.FunctionDef) and (node.name in ("__mul__", "__and__", "__contains__", "__len__")
+                                                          or "property" in map(ast.unparse, node.decorator_list)):
+                    for one in ast.walk(node):
+                        self.assertFalse(isinstance(one, ast.Attribute) and not isinstance(one.ctx, ast.Load), path)
+                        self.assertFalse(isinstance(one, ast.Lambda), path)
 
     def test_names(self):
         builtin_names = [name for name in vars(__import__("builtins")) if not name.startswith("__")]

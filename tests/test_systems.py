@@ -3,41 +3,9 @@
 import random
 import unittest
 
-from tests.oracles import belongs, box, equations_of, fulfils, has_hermite_shape, is_solvable, lead, rank_by_minors
+from tests.oracles import (belongs, box, equations_of, fulfils, has_hermite_shape, is_solvable, lead, parts_of,
+                           random_row, random_system, rank_by_minors)
 from whateverboxes.systems import System
-
-NAMES = ("x", "y", "z", "u", "v", "w")
-
-
-def random_row(rng, width, bound, most=6):
-    return tuple(rng.randint(-bound, bound) for _ in range(width)), rng.randint(-most, most)
-
-
-def random_parts(rng, width, rows, rests, bound=4):
-    """Rows and rests, some of them made so that a small tuple fulfils them."""
-    point = tuple(rng.randint(-2, 2) for _ in range(width))
-    keep = rng.randrange(3)
-    made = []
-    for k in range(rows + rests):
-        factors, constant = random_row(rng, width, bound)
-        if keep:
-            constant = sum(a * b for a, b in zip(factors, point))
-        made.append((factors, constant))
-    if rows > 1 and rng.randrange(3) == 0:
-        times = rng.randint(-2, 2)
-        made[1] = tuple(times * a for a in made[0][0]), times * made[0][1] + (rng.randrange(4) == 0)
-    moduli = [rng.randint(2, 12) for _ in range(rests)]
-    kept = tuple((factors, constant + modulus * rng.randint(-2, 2), modulus)
-                 for (factors, constant), modulus in zip(made[rows:], moduli))
-    return tuple(made[:rows]), kept
-
-
-def random_system(rng, width, rows, rests, bound=4):
-    return System(NAMES[:width], *random_parts(rng, width, rows, rests, bound))
-
-
-def parts(system):
-    return system.names, system.rows, system.rests
 
 
 def all_parts(system):
@@ -46,7 +14,7 @@ def all_parts(system):
         assert type(one) is tuple, one
     for row in system.rows + system.rests:
         assert type(row[0]) is tuple and all(type(entry) is int for entry in row[0] + row[1:]), row
-    return parts(system)
+    return parts_of(system)
 
 
 class MadeTest(unittest.TestCase):
@@ -57,27 +25,27 @@ class MadeTest(unittest.TestCase):
             self.assertIs(system.rows, rows)
             self.assertIs(system.rests, rests)
         for system in (System(names, rows), System(names=names, rows=rows)):
-            self.assertEqual(parts(system), (names, rows, ()))
+            self.assertEqual(parts_of(system), (names, rows, ()))
 
     def test_systems_do_not_share_what_they_are_made_of(self):
         one = System(("x",), (((1,), 2),))
         two = System(("y",), (), (((1,), 0, 2),))
-        self.assertEqual(parts(one), (("x",), (((1,), 2),), ()))
-        self.assertEqual(parts(two), (("y",), (), (((1,), 0, 2),)))
+        self.assertEqual(parts_of(one), (("x",), (((1,), 2),), ()))
+        self.assertEqual(parts_of(two), (("y",), (), (((1,), 0, 2),)))
 
     def test_nothing_changes_a_system(self):
         rng = random.Random(1)
         for _ in range(60):
             one = random_system(rng, 3, rng.randint(0, 3), rng.randint(0, 2))
             two = random_system(rng, 3, rng.randint(0, 3), rng.randint(0, 2))
-            before = parts(one), parts(two)
+            before = parts_of(one), parts_of(two)
             for told in (one.point, one.moves, one.plain_rows):
                 self.assertEqual(told(), told())
             self.assertEqual(one.brings(two), one.brings(two))
             self.assertEqual(one.is_same(two), one.is_same(two))
             self.assertEqual(str(one), str(one))
             one.fulfils((1, 2, 3)), one & two, one.without(0), one.renamed(x="a"), one.equate("x", "y")
-            self.assertEqual((parts(one), parts(two)), before)
+            self.assertEqual((parts_of(one), parts_of(two)), before)
 
 
 class FulfilsTest(unittest.TestCase):

@@ -41,7 +41,7 @@ class System:
         point = self.point()
         if point is None:
             return True
-        plain = _without_constants(other)
+        plain = without_constants(other)
         return other.fulfils(point) and all([plain.fulfils(move) for move in self.moves()])
 
     def is_same(self, other):
@@ -108,7 +108,8 @@ def _solving_rows(system):
     return [line[:width] for line in kernel(tuple(table), width + count)]
 
 
-def _without_constants(system):
+def without_constants(system):
+    """The system that is fulfilled by exactly the moves of this one."""
     rows = tuple([(factors, 0) for factors, _ in system.rows])
     return System(system.names, rows, tuple([(factors, 0, modulus) for factors, _, modulus in system.rests]))
 

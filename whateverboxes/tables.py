@@ -67,6 +67,16 @@ def units(width):
     return [(0,) * k + (1,) + (0,) * (width - k - 1) for k in range(width)]
 
 
+def is_integer(value):
+    """Whether any value is an integer; a bool is none."""
+    return isinstance(value, int) and not isinstance(value, bool)
+
+
+def are_integers(value, count):
+    """Whether any value is a tuple of so many integers."""
+    return isinstance(value, tuple) and len(value) == count and all([is_integer(entry) for entry in value])
+
+
 def _width(table):
     return len(table[0]) if table else 0
 
