@@ -242,6 +242,7 @@ class ModuloVerdictHoldsTest(unittest.TestCase):
                              (("ahead", 0, (2, True, 1)), False), (("ahead", 0, [2, 1, 1]), False),
                              (("ahead", 0, (2, 1)), False), (("ahead", (2, 1, 1)), False),
                              (("ahead", 0, (2, 1, 1), 0), False), (("weights", (1, 1, 0)), False),
+                             (("weights", (1, 1, -3)), False), (("weights", (-1, -1, 3)), False),
                              (("digits", 0, 5), False), (("alike", 0), False), (("modulo", 2), False)):
             self.assertIs(self.holds(THREE, thing), right, thing)
 
@@ -295,6 +296,7 @@ class ModuloVerdictHoldsTest(unittest.TestCase):
         if told[0] == "ahead":
             yield "ahead", number, tuple(5 * a + b for a, b in zip(told[2], total))
         yield "weights", tuple(rng.randint(0, 2) for _ in system.names)
+        yield "weights", rng.choice([factors for factors, _ in system.rows] or [(0,) * len(system.names)])
         if told[0] == "weights":
             yield "weights", tuple(10 ** 30 * entry for entry in told[1])
 

@@ -25,17 +25,17 @@ def alike(system):
 
 def reached(system):
     """The names of the greatest reached set, in the order of the system."""
-    places = [k for layer in _layers(system) for k in layer]
+    places = [k for layer in _chain(system) for k in layer]
     return tuple([name for k, name in enumerate(system.names) if k in places])
 
 
 def form(system):
     """A form with as few moves as possible. Raises NoForm(reached) if there is none."""
-    layers = _layers(system)
+    layers = _chain(system)
     fronts = tuple([at for k in range(len(system.names)) for at, layer in enumerate(layers) if k in layer])
     if len(fronts) < len(system.names):
         raise NoForm(reached(system))
-    moves = [_layer_move(system, layers, at) for at in range(len(layers))]
+    moves = [_move_of_layer(system, layers, at) for at in range(len(layers))]
     leads = [move[layer[0]] for layer, move in zip(layers, moves)]
     factor = 1
     for lead in leads:
@@ -81,7 +81,7 @@ def _gathered_system(system, together, apart):
     return System(system.names[:1 + len(apart)], rows, rests)
 
 
-def _layers(system):
+def _chain(system):
     """The indexes by which a chain of reached sets grows from the empty one to the greatest one, in few steps.
 
     No chain to the greatest set has fewer steps. The sets are gone through by the number of steps to them.
@@ -114,7 +114,7 @@ def _gathered_rank(table, together, apart):
     return rank(tuple([gathered(row, together, apart) for row in table]))
 
 
-def _layer_move(system, layers, at):
+def _move_of_layer(system, layers, at):
     """The move that has the least possible integer from 1 on at each index of a layer, and 0 at all later ones."""
     before = [k for layer in layers[:at] for k in layer]
     # In the Hermite form the first row alone has an entry for the layer, and each such entry is a multiple of it.
