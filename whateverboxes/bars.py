@@ -92,6 +92,6 @@ def _minor_divisor(rows):
     short = hermite(rows)
     square = hermite([tuple([row[k] for row in short]) for k in range(len(short[0]) if short else 0)])
     divisor = 1
-    for k, row in enumerate(square):
-        divisor = divisor * row[k]
+    for k, lead in enumerate(square):
+        divisor = divisor * lead[k]
     return divisor
