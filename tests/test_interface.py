@@ -12,6 +12,12 @@ FUNCTIONS = {
     "verdicts": {"verdict": "system * unlike=()", "verdict_holds": "system thing * unlike=()", "barring": "*things",
                  "verdict_of_any": "*systems", "beside": "*systems", "keepable": "system * unlike=()",
                  "modulo_verdict": "system", "modulo_verdict_holds": "system thing"},
+    "fits": {"solved": "system machine * unlike=()", "closed": "system machine", "closed_holds": "system machine thing",
+             "fit": "system function most * unlike=()"},
+    "dealings": {"dealing": "system boxes most * start=() unlike=()", "tree": "system boxes most * start=() unlike=()",
+                 "tree_holds": "system boxes most thing * start=() unlike=()",
+                 "least_most": "system boxes limit * unlike=()"},
+    "findings": {"finding_holds": "thing"},
 }
 CLASSES = {
     "errors": {"BoxError": {}, "BadText": {"__init__": "self line"}, "Failed": {"__init__": "self line"},
@@ -28,7 +34,11 @@ CLASSES = {
     "machines": {"Machine": {"__init__": "self base steps boxes", "modulo": "base modulus", "last": "base",
                              "first": "base", "sums": "base modulus", "__mul__": "self other",
                              "__call__": "self number", "sorter": "self"}},
+    "dealers": {"Dealer": {"__init__": "self system boxes * unlike=()", "deal": "self number box",
+                           "deal_all": "self *pairs", "take_back": "self", "free": "self number", "box": "self number",
+                           "goes_on": "self most", "__contains__": "self number", "__len__": "self"}},
 }
+PROPERTIES = {("dealers", "Dealer"): "dealt stuck"}
 STATIC = {("systems", "System"): "read", ("programs", "Program"): "read", ("bars", "Sorter"): "modulo digits",
           ("machines", "Machine"): "modulo last first sums"}
 
@@ -69,6 +79,13 @@ class InterfaceTest(unittest.TestCase):
             made = vars(importlib.import_module(f"whateverboxes.{name}"))[one]
             for method in methods.split():
                 self.assertIsInstance(vars(made)[method], staticmethod)
+
+    def test_properties(self):
+        for (name, one), words in PROPERTIES.items():
+            made = vars(importlib.import_module(f"whateverboxes.{name}"))[one]
+            for word in words.split():
+                self.assertIsInstance(vars(made)[word], property)
+                self.assertIsNone(vars(made)[word].fset)
 
 
 if __name__ == "__main__":

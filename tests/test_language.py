@@ -22,7 +22,8 @@ NODES = ("Module Expr Constant ImportFrom alias FunctionDef ClassDef arguments a
          "Return If IfExp While For Break Continue Pass Raise Tuple List Dict Subscript Slice Starred Compare BoolOp "
          "UnaryOp BinOp And Or Not USub Add Sub Mult FloorDiv Mod Eq NotEq Lt LtE Gt GtE Is IsNot In NotIn ListComp "
          "comprehension JoinedStr FormattedValue AugAssign keyword Set SetComp DictComp Lambda BitAnd BitOr Try "
-         "ExceptHandler Delete Del Assert Match match_case MatchSequence MatchValue MatchAs MatchStar").split()
+         "ExceptHandler Delete Del Assert Match match_case MatchSequence MatchValue MatchAs MatchStar Yield LShift "
+         "RShift").split()
 LIBRARY = {"heapq": ("heappush", "heappop", "heapify"), "math": ("gcd", "lcm", "isqrt", "comb"),
            "itertools": ("product", "combinations", "permutations")}
 FORBIDDEN_NAMES = ("register mro elements open input law version_info with_traceback add_note attrgetter breakpoint "
@@ -157,11 +158,54 @@ class LanguageTest(unittest.TestCase):
 
     def test_errors_that_are_raised_and_caught(self):
         for path, tree in trees():
+            handlers = [node for node in ast.walk(tree) if isinstance(node, ast.ExceptHandler)]
+            for node in handlers:
+                self.assertIsInstance(node.type, ast.Name, path)
+                self.assertNotIn(node.type.id, ERRORS, path)
+            again = [one for node in handlers for one in ast.walk(node) if isinstance(one, ast.Raise) and not one.exc]
             for node in ast.walk(tree):
-                if isinstance(node, ast.Raise):
+                if isinstance(node, ast.Raise) and node not in again:
                     self.assertIsInstance(node.exc, ast.Call)
                     self.assertIsInstance(node.exc.func, ast.Name)
                     self.assertNotIn(node.exc.func.id, ERRORS, path)
+
+    def test_generators_are_iterated_at_once(self):
+        everything = [tree for _, tree in trees()]
+        functions = [node for tree in everything for node in ast.walk(tree) if isinstance(node, ast.FunctionDef)]
+        makers = [node for node in functions if any(isinstance(one, ast.Yield) for one in ast.walk(node))]
+        for maker in makers:
+            self.assertEqual([node.name for node in functions].count(maker.name), 1)
+            self.assertEqual(maker.decorator_list, [])
+            for node in ast.walk(maker):
+                self.assertNotIsInstance(node, (ast.Try, ast.With, ast.Lambda))
+                self.assertFalse(isinstance(node, ast.Return) and node.value)
+        names = [maker.name for maker in makers]
+        for tree in everything:
+            heads = [node.iter for node in ast.walk(tree) if isinstance(node, (ast.For, ast.comprehension))]
+            for node in ast.walk(tree):
+                if isinstance(node, ast.Call) and ast.unparse(node.func).split(".")[-1] in names:
+                    self.assertIn(node, heads)
+            statements = [node.value for node in ast.walk(tree) if isinstance(node, ast.Expr)]
+            for node in ast.walk(tree):
+                if isinstance(node, ast.Yield):
+                    self.assertIn(node, statements)
+
+    def test_names_of_methods_and_attributes(self):
+        plain, static, kept = {}, [], {}
+        for _, tree in trees():
+            for made in [node for node in tree.body if isinstance(node, ast.ClassDef)]:
+                for node in [node for node in made.body if isinstance(node, ast.FunctionDef)]:
+                    words = [ast.unparse(one) for one in node.decorator_list]
+                    (static if words == ["staticmethod"] else plain.setdefault(made.name, [])).append(node.name)
+                for node in ast.walk(made):
+                    if isinstance(node, ast.Attribute) and isinstance(node.ctx, ast.Store):
+                        kept.setdefault(made.name, []).append(node.attr)
+        for name, methods in plain.items():
+            self.assertEqual(len(methods), len(set(methods)), name)
+            self.assertFalse(set(methods) & set(kept.get(name, [])), name)
+            self.assertFalse(set(methods) & set(static), name)
+        for name, attributes in kept.items():
+            self.assertFalse(set(attributes) & set(static), name)
 
     def test_words_outside_of_comments_and_docstrings(self):
         for path, tree in trees():
