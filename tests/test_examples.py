@@ -3,7 +3,11 @@
 import unittest
 
 from whateverboxes.bars import Sorter, clear_prime, is_clear, last_digit
-from whateverboxes.errors import BadMachine, BadText, Failed, NoForm
+from whateverboxes.dealers import Dealer
+from whateverboxes.dealings import dealing, least_most, tree, tree_holds
+from whateverboxes.errors import BadMachine, BadText, Dealt, Failed, NoForm, NothingDealt, Solved, TooFar
+from whateverboxes.findings import finding_holds
+from whateverboxes.fits import closed, closed_holds, fit, solved
 from whateverboxes.forms import alike, form, form_holds, form_numbers, reached
 from whateverboxes.machines import Machine
 from whateverboxes.programs import Program
@@ -114,6 +118,64 @@ class ExamplesTest(unittest.TestCase):
         with self.assertRaises(BadMachine) as held:
             Machine(2, ((1, 0), (1, 1)), (0, 1))
         self.assertEqual(held.exception.state, 0)
+
+    def test_solutions_in_one_box(self):
+        schur, three = read("names x y z", "x + y - z = 0"), read("names x y z", "x + y - 3 z = 0")
+        self.assertEqual(solved(schur, Machine.modulo(2, 2)), (2, 2, 4))
+        self.assertIn(solved(schur, Machine.modulo(2, 2), unlike=(("x", "y"),)), ((2, 4, 6), (4, 2, 6)))
+        self.assertIsNone(solved(three, Machine.last(5)))
+        self.assertIs(closed_holds(three, Machine.last(5), closed(three, Machine.last(5))), True)
+        self.assertIsNone(closed(schur, Machine.last(5)))
+        asked = []
+
+        def remainder(number):
+            asked.append(number)
+            return number % 3
+
+        self.assertEqual(fit(schur, remainder, 60), (3, 3, 6))
+        self.assertEqual(asked, [1, 2, 3, 4, 5, 6])
+        with self.assertRaises(TooFar) as held:
+            fit(three, Sorter.digits(5), 60)
+        self.assertEqual(held.exception.most, 60)
+
+    def test_dealings_and_trees(self):
+        schur = read("names x y z", "x + y - z = 0")
+        self.assertEqual([least_most(schur, boxes, 20) for boxes in (1, 2, 3)], [2, 5, 14])
+        apart = read("names x y z", "x - 2 y + z = 0")
+        self.assertEqual([least_most(apart, boxes, 20, unlike=(("x", "y"),)) for boxes in (1, 2)], [3, 9])
+        self.assertEqual(dealing(schur, 2, 4), (0, 1, 1, 0))
+        self.assertEqual(dealing(schur, 2, 4, start=(1,)), (1, 0, 0, 1))
+        self.assertIsNone(dealing(schur, 2, 5))
+        self.assertEqual(tree(schur, 1, 2), ("deal", 1, (("deal", 2, (("solved", (1, 1, 2)),)),)))
+        self.assertIs(tree_holds(schur, 2, 5, tree(schur, 2, 5)), True)
+        self.assertIsNone(tree(schur, 2, 4))
+
+    def test_a_dealer(self):
+        dealer = Dealer(read("names x y z", "x + y - z = 0"), 2)
+        dealer.deal(1, 0)
+        with self.assertRaises(Solved) as held:
+            dealer.deal(2, 0)
+        self.assertEqual(held.exception.numbers, (1, 1, 2))
+        self.assertEqual(dealer.free(2), (1,))
+        self.assertEqual(dealer.goes_on(4), (0, 1, 1, 0))
+        dealer.deal_all((2, 1), (3, 1), (4, 0), (6, 0))
+        self.assertEqual(dealer.dealt, ((1, 0), (2, 1), (3, 1), (4, 0), (6, 0)))
+        self.assertEqual((6 in dealer, len(dealer), dealer.box(3), dealer.box(5)), (True, 5, 1, None))
+        self.assertEqual(dealer.stuck, 5)
+        self.assertEqual(dealer.take_back(), (6, 0))
+        with self.assertRaises(Dealt) as held:
+            dealer.free(4)
+        self.assertEqual(held.exception.number, 4)
+        with self.assertRaises(NothingDealt):
+            Dealer(read("names x"), 1).take_back()
+
+    def test_findings(self):
+        schur = read("names x y z", "x + y - z = 0")
+        self.assertIs(finding_holds(("verdict", str(schur), (), verdict(schur))), True)
+        self.assertIs(finding_holds(("tree", str(schur), (), 2, 5, tree(schur, 2, 5))), True)
+        self.assertIs(finding_holds(("solved", str(schur), (2, ((0, 1), (1, 0)), (0, 1)), (3, 3, 6))), True)
+        self.assertIs(finding_holds(("solved", str(schur), (2, ((0, 1), (1, 0)), (0, 1)), (1, 3, 4))), False)
+        self.assertIs(finding_holds(("asks", "take x\nlet y = 2 x\nkeep y", "names y\ny = 0 mod 2")), True)
 
     def test_errors(self):
         with self.assertRaises(BadText) as held:
