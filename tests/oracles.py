@@ -7,7 +7,8 @@ import math
 import re
 
 from whateverboxes.bars import Sorter
-from whateverboxes.errors import BadText, BoxError
+from whateverboxes.dealers import Dealer
+from whateverboxes.errors import BadText, BoxError, Solved
 from whateverboxes.machines import Machine
 from whateverboxes.programs import Program
 from whateverboxes.systems import System
@@ -568,7 +569,8 @@ def odd_values():
             nested(199, 1, lambda inner: (inner,)), nested(199, 1, lambda inner: [inner]),
             nested(199, 1, lambda inner: {"a": inner}), nested(150, (1, 2), lambda inner: ("form", inner)),
             system, Program.read("take x\nkeep x"), Sorter.modulo(3), Sorter.digits(5, after=-2),
-            Machine.last(3), Machine.modulo(2, 3) * Machine.first(2), BoxError(), BadText((1, 2)))
+            Machine.last(3), Machine.modulo(2, 3) * Machine.first(2), BoxError(), BadText((1, 2)), Dealer(system, 2),
+            Solved((1, 1, 2)))
 
 
 def spoiled(rng, value):

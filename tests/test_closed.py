@@ -189,6 +189,20 @@ class ClosedHoldsTest(unittest.TestCase):
                       ((9,), last[1], last[2] * 2), ((), last[1], last[2])):
             self.look(STEP, EVEN, tuple(sorted(made + (stand,))), False)
 
+    def test_states_below_0(self):
+        # Python would take them for states from the end on.
+        for system, machine in cases(random.Random(726), 20, 300):
+            made = closed(system, machine)
+            count = len(machine.steps)
+            for k, (carries, states, begun) in enumerate(made):
+                stand = carries, tuple(state - count for state in states), begun
+                self.look(system, machine, tuple(sorted(made[:k] + (stand,) + made[k + 1:])), False)
+            for low in (1, 2, count):
+                for state in range(low):
+                    more = {(carries, (-1 - state,) + states[1:], begun) for carries, states, begun in made}
+                    self.look(system, machine, tuple(sorted({*made, *more})), False)
+                    self.look(system, machine, tuple(sorted(made + tuple(more)[:1])), False)
+
     def test_states_that_are_not_reached(self):
         # The state 2 leads to states with other boxes, and 3 to itself; both are allowed in a closed set.
         system = System(NAMES[:1], (((2,), -7),))

@@ -229,6 +229,8 @@ class KindsTest(FindingsTest):
             for many in (0, -1, True, str(most), None, (most,), [most]):
                 self.look(("tree", text, pairs, boxes, many, made), False)
         self.look(("tree", SUM, (), 2, 9, LEAF), False)
+        self.look(("tree", SUM, (), 0, 9, ("deal", 1, ())), False)
+        self.look(("tree", SUM, (), False, 9, ("deal", 1, ())), False)
         always = "names x y\nx - y = 0"
         leaf = ("solved", (5, 5))
         self.look(("tree", always, (), 1, 5, ("deal", 5, (leaf,))), True)

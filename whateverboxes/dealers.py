@@ -1,6 +1,6 @@
 """Dealers, which deal numbers one by one into boxes and never let a box hold a solution."""
 
-from whateverboxes.dealings import Cases, least_dealing
+from whateverboxes.dealings import Bars, Cases, least_dealing
 from whateverboxes.errors import BoxError, Dealt, NothingDealt, Solved
 from whateverboxes.pools import Pool
 
@@ -9,8 +9,7 @@ class Dealer:
     """The numbers that are dealt to boxes none of which holds a solution. At first there is none."""
 
     def __init__(self, system, boxes, *, unlike=()):
-        self._system = system
-        self._unlike = unlike
+        self._bars = Bars(system, unlike)
         self._placed = {}
         self._pools = [Pool(system, unlike) for _ in range(boxes)]
 
@@ -57,7 +56,7 @@ class Dealer:
 
     def goes_on(self, most):
         """A dealing that gives each dealt number up to most its box; None if there is none."""
-        return least_dealing(Cases(self._system, len(self._pools), most, self._placed, self._unlike))
+        return least_dealing(Cases(self._bars, len(self._pools), most, self._placed))
 
     def __contains__(self, number):
         return number in self._placed

@@ -4,33 +4,26 @@ from whateverboxes.pools import Pool, is_solution, unlike_places
 from whateverboxes.tables import is_integer
 
 
-class Cases:
-    """The cases of dealing numbers in their order: some have a box of their own, the others can go to any box.
+class Bars:
+    """The solutions of the numbers from 1 on, found for one number after the other and kept.
 
-    The numbers of a box are held as one integer, the sum of 1 << number for each of them.
+    Held numbers are passed as one integer, the sum of 1 << number for each of them.
     """
 
-    def __init__(self, system, boxes, most, fixed, unlike):
-        self.boxes = boxes
-        self.most = most
-        self.fixed = fixed
+    def __init__(self, system, unlike):
         self._pool = Pool(system, unlike)
-        self._bars = [{}]
-
-    def choices(self, number):
-        """The boxes to which a number can go, as far as no solutions are looked at."""
-        return [self.fixed[number]] if number in self.fixed else list(range(self.boxes))
+        self._found = [{}]
 
     def solution(self, number, held):
         """A solution of lower numbers that are held and of this one; None if there is none."""
-        while len(self._bars) <= number:
-            self._bars.append(self._next_bars(len(self._bars)))
-        for others, numbers in self._bars[number].items():
+        while len(self._found) <= number:
+            self._found.append(self._next_ones(len(self._found)))
+        for others, numbers in self._found[number].items():
             if held & others == others:
                 return numbers
         return None
 
-    def _next_bars(self, number):
+    def _next_ones(self, number):
         """One of the solutions of lower numbers and of this one, for each set of lower numbers in them."""
         found = {}
         for numbers in self._pool.solutions_with(number):
@@ -42,14 +35,28 @@ class Cases:
         return found
 
 
+class Cases:
+    """The cases of dealing numbers in their order: some have a box of their own, the others can go to any box."""
+
+    def __init__(self, bars, boxes, most, fixed):
+        self.bars = bars
+        self.boxes = boxes
+        self.most = most
+        self.fixed = fixed
+
+    def choices(self, number):
+        """The boxes to which a number can go, as far as no solutions are looked at."""
+        return [self.fixed[number]] if number in self.fixed else list(range(self.boxes))
+
+
 def dealing(system, boxes, most, *, start=(), unlike=()):
     """The least dealing that begins with the boxes of start; None if there is none."""
-    return least_dealing(Cases(system, boxes, most, _dealt(start), unlike))
+    return least_dealing(Cases(Bars(system, unlike), boxes, most, _dealt(start)))
 
 
 def tree(system, boxes, most, *, start=(), unlike=()):
     """A tree of cases that shows that there is no dealing; None if there is one."""
-    cases = Cases(system, boxes, most, _dealt(start), unlike)
+    cases = Cases(Bars(system, unlike), boxes, most, _dealt(start))
     return _tree_from(cases, (0,) * boxes, 1)
 
 
@@ -60,7 +67,7 @@ def tree_holds(system, boxes, most, thing, *, start=(), unlike=()):
 
 def least_most(system, boxes, limit, *, unlike=()):
     """The least most up to the limit for which there is no dealing; None if there is one for the limit."""
-    deepest = _deepest(Cases(system, boxes, limit, {}, unlike), (0,) * boxes, 1)
+    deepest = _deepest(Cases(Bars(system, unlike), boxes, limit, {}), (0,) * boxes, 1)
     return deepest + 1 if deepest < limit else None
 
 
@@ -84,7 +91,7 @@ def _dealing_from(cases, held, number):
     if number > cases.most:
         return ()
     for box in cases.choices(number):
-        if cases.solution(number, held[box]) is None:
+        if cases.bars.solution(number, held[box]) is None:
             more = _dealing_from(cases, _after(held, number, box), number + 1)
             if more is not None:
                 return (box,) + more
@@ -97,7 +104,7 @@ def _tree_from(cases, held, number):
         return None
     branches = []
     for box in cases.choices(number):
-        numbers = cases.solution(number, held[box])
+        numbers = cases.bars.solution(number, held[box])
         branch = ("solved", numbers)
         if numbers is None:
             branch = _tree_from(cases, _after(held, number, box), number + 1)
@@ -113,7 +120,7 @@ def _deepest(cases, held, number):
     if deepest == cases.most:
         return deepest
     for box in cases.choices(number):
-        if deepest < cases.most and cases.solution(number, held[box]) is None:
+        if deepest < cases.most and cases.bars.solution(number, held[box]) is None:
             deepest = max(deepest, _deepest(cases, _after(held, number, box), number + 1))
     return deepest
 

