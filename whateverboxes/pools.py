@@ -103,8 +103,9 @@ class Pool:
 
 def is_solution(system, thing, places):
     """Whether any value is a solution with unlike numbers at both indexes of each pair of places."""
-    return are_integers(thing, len(system.names)) and min(thing) >= 1 and system.fulfils(thing) and are_apart(
-        thing, places)
+    if not are_integers(thing, len(system.names)) or min(thing) < 1:
+        return False
+    return system.fulfils(thing) and are_apart(thing, places)
 
 
 def unlike_places(system, unlike):
