@@ -1,5 +1,6 @@
 """Point 23: closed sets, which show that no box of a machine holds a solution."""
 
+import itertools
 import random
 import unittest
 
@@ -188,6 +189,18 @@ class ClosedHoldsTest(unittest.TestCase):
                       (last[0], last[1], (-1, 0)), (last[0] * 2, last[1], last[2]), (last[0], last[1] * 2, last[2]),
                       ((9,), last[1], last[2] * 2), ((), last[1], last[2])):
             self.look(STEP, EVEN, tuple(sorted(made + (stand,))), False)
+
+    def test_great_sets(self):
+        # x is -1, so the last carry is 1 for ever; all carries from 1 on lead to carries from 1 on.
+        system, machine = System(NAMES, (((1, 0, 0, 0, 0, 0), -1),)), Machine(6, ((0,) * 6,), (0,))
+        self.assertLessEqual(size_together(system, machine, 1), 200000)
+        thing = tuple(((carry,), (0,) * 6, begun) for carry in range(1, 120)
+                      for begun in itertools.product((0, 1), repeat=6))
+        self.look(system, machine, thing, True)
+        self.look(system, machine, thing[64:], False)
+        self.look(system, machine, thing[1:], False)
+        self.look(system, machine, thing[:100] + thing[101:], False)
+        self.look(system, machine, (((0,), (0,) * 6, (0,) * 6),) + thing, False)
 
     def test_states_below_0(self):
         # Python would take them for states from the end on.

@@ -32,7 +32,7 @@ def closed(system, machine):
     seen = {stands[0]: True}
     at = 0
     while at < len(stands):
-        for _, stand in reading.steps_from(stands[at]):
+        for stand in reading.goals_from(stands[at]):
             if stand not in seen:
                 if reading.is_end(stand):
                     return None
@@ -51,7 +51,7 @@ def closed_holds(system, machine, thing):
     reading = Reading(system, machine, ())
     codes = {reading.code_of(stand): True for stand in thing}
     for code in codes:
-        if reading.is_end(code) or not all([after in codes for _, after in reading.steps_from(code)]):
+        if reading.is_end(code) or not all([after in codes for after in reading.goals_from(code)]):
             return False
     return True
 
@@ -85,7 +85,7 @@ def _layers_to_end(reading):
             return layers
         layer = []
         for before in layers[-1]:
-            for _, stand in reading.steps_from(before):
+            for stand in reading.goals_from(before):
                 if stand not in seen:
                     seen[stand] = True
                     layer.append(stand)

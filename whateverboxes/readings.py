@@ -5,17 +5,22 @@ from whateverboxes.tables import dot
 
 
 class Carries:
-    """The carries of stands, each with a number of its own in the order in which they are met."""
+    """The carries of stands, each with a number of its own in the order in which they are met.
+
+    Which digits are possible depends on the remainders of the carries by the base alone; so does what these digits
+    add to the quotients of the carries, their gains.
+    """
 
     def __init__(self, system, base, digits):
         self._base = base
         self._known = []
         self._numbers = {}
-        self._steps = {}
         self._groups = {}
         for k, row in enumerate(digits):
             sums = [dot(factors, row) for factors, _ in system.rows]
-            self._groups.setdefault(tuple([-total % base for total in sums]), []).append((k, sums))
+            remainders = tuple([-total % base for total in sums])
+            gains = tuple([(total + remainder) // base for total, remainder in zip(sums, remainders)])
+            self._groups.setdefault(remainders, []).append((k, gains))
 
     def number_of(self, carries):
         """The number of carries."""
@@ -28,16 +33,17 @@ class Carries:
         """The carries that have this number."""
         return self._known[number]
 
-    def steps_from(self, number):
-        """The pairs of the index of possible digits and the number of the carries to which they lead."""
-        if number not in self._steps:
-            carries = self._known[number]
-            group = self._groups.get(tuple([carry % self._base for carry in carries]), [])
-            self._steps[number] = [(k, self.number_of(self._quotients(carries, sums))) for k, sums in group]
-        return self._steps[number]
+    def remainders(self, number):
+        """The remainders of the carries that have this number."""
+        return tuple([carry % self._base for carry in self._known[number]])
 
-    def _quotients(self, carries, sums):
-        return tuple([(carry + total) // self._base for carry, total in zip(carries, sums)])
+    def group(self, remainders):
+        """The pairs of the index of possible digits and of their gains."""
+        return self._groups.get(remainders, [])
+
+    def after(self, number, gains):
+        """The number of the carries to which digits with these gains lead."""
+        return self.number_of(tuple([carry // self._base + gain for carry, gain in zip(self._known[number], gains)]))
 
 
 class Marks:
@@ -111,6 +117,7 @@ class Reading:
         self._marks = Marks(machine, width, unlike_places(system, unlike), self._rows)
         self._bound = self._marks.bound()
         self._begin = first_stand(system)
+        self._goals = {}
 
     def begin(self):
         """The code of the first stand."""
@@ -130,7 +137,29 @@ class Reading:
         """The pairs of digits and of the code of the stand to which a stand goes on with them."""
         number, mark = divmod(code, self._bound)
         marks = self._marks.steps_from(mark)
-        return [(self._rows[k], after * self._bound + marks[k]) for k, after in self._carries.steps_from(number)]
+        return [(self._rows[k], self._carries.after(number, gains) * self._bound + marks[k])
+                for k, gains in self._carries.group(self._carries.remainders(number))]
+
+    def goals_from(self, code):
+        """The codes of the stands to which a stand goes on, each of them once."""
+        number, mark = divmod(code, self._bound)
+        found = []
+        for gains, marks in self._marks_by_gains(self._carries.remainders(number), mark).items():
+            low = self._carries.after(number, gains) * self._bound
+            found = found + [low + after for after in marks]
+        return found
+
+    def _marks_by_gains(self, remainders, mark):
+        """The marks to which a mark goes on where the carries have these remainders, by the gains of the carries."""
+        if (remainders, mark) not in self._goals:
+            marks = self._marks.steps_from(mark)
+            found = {}
+            for k, gains in self._carries.group(remainders):
+                if gains not in found:
+                    found[gains] = {}
+                found[gains][marks[k]] = True
+            self._goals[(remainders, mark)] = found
+        return self._goals[(remainders, mark)]
 
     def is_end(self, code):
         """Whether the stand that has this code is an end, and all pairs are apart."""
