@@ -32,13 +32,14 @@ def closed(system, machine):
     seen = {stands[0]: True}
     at = 0
     while at < len(stands):
-        for stand in reading.goals_from(stands[at]):
+        goals = reading.goals_from(stands[at])
+        at += 1
+        for stand in goals:
             if stand not in seen:
                 if reading.is_end(stand):
                     return None
                 seen[stand] = True
                 stands.append(stand)
-        at += 1
     return tuple(sorted([reading.stand_of(stand) for stand in stands]))
 
 
