@@ -82,23 +82,28 @@ class Pool:
 
     def solutions_with(self, number):
         """All solutions of held numbers and of one more number in which this one occurs."""
-        fresh = self._right.by_totals(self._right.rows_with(self._numbers, number))
-        for one in self._left.rows_with(self._numbers, number):
-            totals = self._left.totals(one)
-            for other in fresh.get(totals, []) + self._right.held(totals):
-                if are_apart(one + other, self._places):
-                    yield one + other
-        for totals, others in fresh.items():
-            for one in self._left.held(totals):
-                for other in others:
-                    if are_apart(one + other, self._places):
-                        yield one + other
+        return [one + other for lefts, rights in self._halves_with(number) for one in lefts for other in rights
+                if are_apart(one + other, self._places)]
 
     def solution_with(self, number):
-        """One of these solutions; None if there is none."""
-        for numbers in self.solutions_with(number):
-            return numbers
+        """The first of these solutions; None if there is none."""
+        for lefts, rights in self._halves_with(number):
+            for one in lefts:
+                for other in rights:
+                    if are_apart(one + other, self._places):
+                        return one + other
         return None
+
+    def _halves_with(self, number):
+        """Pairs of lists of left and of right halves that fit each other; this one number more is in one of both.
+
+        They are returned, not yielded: a property of dealers runs this, and what it runs must not yield.
+        """
+        fresh = self._right.by_totals(self._right.rows_with(self._numbers, number))
+        lefts = [(row, self._left.totals(row)) for row in self._left.rows_with(self._numbers, number)]
+        with_left = [([row], rights) for row, totals in lefts
+                     for rights in (fresh.get(totals, []), self._right.held(totals))]
+        return with_left + [(self._left.held(totals), rights) for totals, rights in fresh.items()]
 
 
 def is_solution(system, thing, places):
